@@ -1,10 +1,12 @@
 package settle_test
 
 import (
+	"math"
 	"testing"
 
 	"redress/api"
 	"redress/parse"
+	"redress/row"
 	"redress/settle"
 )
 
@@ -174,13 +176,51 @@ func TestEnded(t *testing.T) {
 			t.Errorf("P10.2: Ended(%s) = %d, %v", words, s, is)
 		}
 	}
-	// What is no right node is no Over that has a sign.
+	// A node of another kind is no Over, whatever sign it has.
 	for _, n := range []api.Node{
-		{}, {Kind: api.Over}, {Kind: api.Over, Sign: -1}, {Kind: api.Over, Sign: api.Query + 1}, {Kind: api.Over, Sign: api.Bang, Name: "a"}, {Sign: api.Tick},
-		{Kind: api.Over + 256, Sign: api.Tick}, {Kind: -api.Over, Sign: api.Bang}, {Kind: api.Skip, Sign: api.Tick}, {Kind: api.Act, Name: "a", Sign: api.Bang},
+		{}, {Sign: api.Tick}, {Kind: api.Over + 256, Sign: api.Tick}, {Kind: -api.Over, Sign: api.Bang}, {Kind: api.Skip, Sign: api.Tick}, {Kind: api.Act, Name: "a", Sign: api.Bang},
+		{Kind: api.End, Sign: api.Query},
 	} {
 		if s, is := settle.Ended([]api.Node{n}); s != 0 || is {
 			t.Errorf("P10.2: Ended(%v) = %d, %v", n, s, is)
+		}
+	}
+}
+
+// Whether a node is an Over is a matter of its kind alone: one that is not row.Right tells its sign too.
+func TestEndedOfAnOverThatIsNotRight(t *testing.T) {
+	for _, n := range []api.Node{
+		{Kind: api.Over}, {Kind: api.Over, Sign: -1}, {Kind: api.Over, Sign: api.Query + 1}, {Kind: api.Over, Sign: math.MaxInt}, {Kind: api.Over, Sign: math.MinInt},
+		{Kind: api.Over, Name: "a"}, {Kind: api.Over, Sign: api.Bang, Name: "a"}, {Kind: api.Over, Sign: 7, Name: "skip"},
+	} {
+		if row.Right(n) {
+			t.Errorf("%v is right", n)
+		}
+		if s, is := settle.Ended([]api.Node{n}); s != n.Sign || !is {
+			t.Errorf("P10.2: Ended(%v) = %d, %v, want %d, true", n, s, is, n.Sign)
+		}
+		// Only alone is it what has ended.
+		for _, l := range [][]api.Node{{n, n}, {n, {Kind: api.Skip}}, {{Kind: api.Block}, n}} {
+			if s, is := settle.Ended(l); s != 0 || is {
+				t.Errorf("P10.2: Ended(%v) = %d, %v", l, s, is)
+			}
+		}
+	}
+}
+
+// Every kind by every sign, those about them that are none too.
+func TestEndedOfEveryNode(t *testing.T) {
+	for kind := -1; kind <= api.End+1; kind++ {
+		for s := -1; s <= api.Query+1; s++ {
+			for _, name := range []string{"", "a"} {
+				n, want, has := api.Node{Kind: kind, Name: name, Sign: s}, 0, kind == api.Over
+				if has {
+					want = s
+				}
+				if got, is := settle.Ended([]api.Node{n}); got != want || is != has {
+					t.Errorf("P10.2: Ended(%v) = %d, %v, want %d, %v", n, got, is, want, has)
+				}
+			}
 		}
 	}
 }
